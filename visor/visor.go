@@ -1,0 +1,37 @@
+// Package visor: what is in a font's file: see DOC.md.
+package visor
+
+import (
+	"visor/api"
+	"visor/text"
+)
+
+// Session looks into one file after another.
+type Session struct{}
+
+// Text tells what a name's bytes say (P3).
+func Text(platform int, encoding int, b string, limit int) (string, int, int) {
+	return text.Tell(platform, encoding, b, limit)
+}
+
+// Encode writes a report (P4).
+func Encode(r api.Report) (string, api.Errno) { return "", api.OK }
+
+// Decode reads a report (P4).
+func Decode(b string) (api.Report, api.Errno) { return api.Report{}, api.OK }
+
+// Public tells which bytes of a file may be looked at (P6).
+func Public(p api.Policy, font string) ([]bool, api.Errno) { return nil, api.OK }
+
+// Inspect looks into a file (P5).
+func Inspect(p api.Policy, font string, budget int) (api.Report, api.Meter, api.Errno) {
+	return api.Report{}, api.Meter{}, api.OK
+}
+
+// New begins a session (P7).
+func New() *Session { return nil }
+
+// Inspect looks into a file, as the function does (P7).
+func (s *Session) Inspect(p api.Policy, font string, budget int) (api.Report, api.Meter, api.Errno) {
+	return api.Report{}, api.Meter{}, api.OK
+}
