@@ -3,6 +3,7 @@ package visor
 
 import (
 	"visor/api"
+	"visor/report"
 	"visor/text"
 )
 
@@ -15,10 +16,14 @@ func Text(platform int, encoding int, b string, limit int) (string, int, int) {
 }
 
 // Encode writes a report (P4).
-func Encode(r api.Report) (string, api.Errno) { return "", api.OK }
+func Encode(r api.Report) (string, api.Errno) {
+	return report.Encode(r)
+}
 
 // Decode reads a report (P4).
-func Decode(b string) (api.Report, api.Errno) { return api.Report{}, api.OK }
+func Decode(b string) (api.Report, api.Errno) {
+	return report.Decode(b)
+}
 
 // Public tells which bytes of a file may be looked at (P6).
 func Public(p api.Policy, font string) ([]bool, api.Errno) { return nil, api.OK }

@@ -2,6 +2,7 @@ package visor
 
 import (
 	"math"
+	"reflect"
 	"testing"
 
 	"visor/api"
@@ -48,6 +49,59 @@ func TestTextAtAllNumbersAndStrings(t *testing.T) {
 					}
 				}
 			}
+		}
+	}
+}
+
+func TestReports(t *testing.T) {
+	none := api.Report{
+		Kind:   api.Outlines,
+		Head:   api.Head{Status: api.Absent},
+		Rights: api.Rights{Status: api.Absent},
+		Naming: api.Absent,
+		Cover:  api.Cover{Status: api.Absent},
+	}
+	some := none
+	some.Tables = []api.Table{{Tag: "name", Status: api.Good, Size: 258}}
+	some.Naming = api.Good
+	some.Names = []api.Name{{Platform: 3, Encoding: 1, Language: 1033, ID: 4, Status: api.Good, Marks: api.Hidden, Text: "é<200e>"}}
+	for _, c := range []struct {
+		r api.Report
+		b string
+	}{
+		{none, "\x01\x00\x08\x00\x00\x00\x00\x08\x00\x00\x00\x00\x08\x00\x08\x00\x00\x00\x00\x00\x00"},
+		{some, "\x01\x01name\x00\x01\x02\x08\x00\x00\x00\x00\x08\x00\x00\x00\x00\x00\x01\x00\x03\x00\x01\x04\x09\x00\x04\x00\x02\x08é<200e>\x08\x00\x00\x00\x00\x00\x00"},
+	} {
+		if b, e := Encode(c.r); b != c.b || e != api.OK {
+			t.Errorf("P4: Encode(%#v) = %x, %d, want %x", c.r, b, e, c.b)
+		}
+		if r, e := Decode(c.b); !reflect.DeepEqual(r, c.r) || e != api.OK {
+			t.Errorf("P4: Decode(%x) = %#v, %d, want %#v", c.b, r, e, c.r)
+		}
+		if r, e := Decode(c.b + "\x00"); !reflect.DeepEqual(r, api.Report{}) || e != api.ErrReport {
+			t.Errorf("P4: Decode(%x00) = %#v, %d", c.b, r, e)
+		}
+	}
+}
+
+func TestWhatIsNoReport(t *testing.T) {
+	for _, r := range []api.Report{
+		{Kind: 4},
+		{Kind: -1},
+		{Tables: make([]api.Table, 1)},
+		{Names: make([]api.Name, 21)},
+		{Names: []api.Name{{Text: "\xff"}}},
+		{Names: []api.Name{{Text: "\u202e"}}},
+		{Cover: api.Cover{Count: math.MaxInt}},
+		{Cover: api.Cover{Count: math.MinInt}},
+	} {
+		if b, e := Encode(r); b != "" || e != api.ErrReport {
+			t.Errorf("P4: Encode(%#v) = %x, %d", r, b, e)
+		}
+	}
+	for _, b := range []string{"", "\x00", "\xff", "\x01\x00\x08"} {
+		if r, e := Decode(b); !reflect.DeepEqual(r, api.Report{}) || e != api.ErrReport {
+			t.Errorf("P4: Decode(%x) = %#v, %d", b, r, e)
 		}
 	}
 }
