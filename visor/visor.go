@@ -3,11 +3,12 @@ package visor
 
 import (
 	"visor/api"
+	"visor/look"
 	"visor/report"
 	"visor/text"
 )
 
-// Session looks into one file after another.
+// Session looks into one file after another. It keeps nothing of any of them, so that none can leave a trace.
 type Session struct{}
 
 // Text tells what a name's bytes say (P3).
@@ -26,17 +27,24 @@ func Decode(b string) (api.Report, api.Errno) {
 }
 
 // Public tells which bytes of a file may be looked at (P6).
-func Public(p api.Policy, font string) ([]bool, api.Errno) { return nil, api.OK }
+func Public(p api.Policy, font string) ([]bool, api.Errno) {
+	return look.Public(p, font)
+}
 
 // Inspect looks into a file (P5).
 func Inspect(p api.Policy, font string, budget int) (api.Report, api.Meter, api.Errno) {
-	return api.Report{}, api.Meter{}, api.OK
+	return look.Inspect(p, font, budget)
 }
 
 // New begins a session (P7).
-func New() *Session { return nil }
+func New() *Session {
+	return &Session{}
+}
 
 // Inspect looks into a file, as the function does (P7).
 func (s *Session) Inspect(p api.Policy, font string, budget int) (api.Report, api.Meter, api.Errno) {
-	return api.Report{}, api.Meter{}, api.OK
+	if s == nil {
+		return api.Report{}, api.Meter{}, api.ErrNil
+	}
+	return look.Inspect(p, font, budget)
 }
